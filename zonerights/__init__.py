@@ -1,0 +1,1 @@
+"""Rights to price differences between zones: see zonerights.house.answers."""
