@@ -2,12 +2,16 @@
 
 from zonerights.house import answers
 
-OPEN, LINE, ROOMS, OUTAGE, GRANT, MOST, BACK, KEEP, PASS, JOIN, CHAIN, VIA, ANNUL = range(13)
+(OPEN, LINE, ROOMS, OUTAGE, GRANT, MOST, BACK, KEEP, PASS, JOIN, CHAIN, VIA, ANNUL, BID, UNBID, AWARD, SETTLE, PAYOUT,
+ VALUE, GROUP, TIGHT, MONEY, PAYIN, HOUSE, RIGHTS, STATE) = range(26)
 
 OBLIGATION = 0
 OPTION = 1
 BILLION = 10 ** 9
 GREAT = 10 ** 18
+
+# What these answer tells all that a house holds.
+EVERYTHING = [(STATE,), (HOUSE,)] + [(MONEY, owner) for owner in range(8)]
 
 
 def flat(calls):
@@ -41,6 +45,31 @@ def option(source, sink, amount, owner=0, price=0):
     return (GRANT, owner, source, sink, OPTION, amount, price)
 
 
+def bid(source, sink, amount, price=0, owner=0, kind=OBLIGATION):
+    return (BID, owner, source, sink, kind, amount, price)
+
+
+def with_row(call, row):
+    """A call with one more row behind it."""
+    return tuple(call) + (len(row),) + tuple(row)
+
+
+def settle(prices, flows):
+    return with_row(with_row((SETTLE,), prices), flows)
+
+
+def payout(prices):
+    return with_row((PAYOUT,), prices)
+
+
+def value(right, prices):
+    return with_row((VALUE, right), prices)
+
+
+def group(marks):
+    return with_row((GROUP,), marks)
+
+
 def two_zones(forth, back=0):
     return [(OPEN, 2), (LINE, 0, 1, forth, back)]
 
@@ -56,26 +85,13 @@ def thirty_rights(owner=7):
     return [option(0, 1, 2, owner=owner) for number in range(30)]
 
 
-def probes(zones, owners=8):
-    """Calls whose answers tell what a house holds: amounts, kinds and numbers of rights, owners, balances."""
-    tail = [(MOST, a, b) for a in range(zones) for b in range(zones) if a != b]
-    tail += [(KEEP, number) for number in range(1, 36)]
-    tail += [(BACK, number, BILLION) for number in range(1, 36)]
-    tail += [(PASS, number, owner, BILLION, 0) for number in range(1, 36) for owner in (0, 1)]
-    tail += [(GRANT, owner, 0, 1, OBLIGATION, amount, 1)
-             for owner in range(owners) for amount in (BILLION, 100, 30, 12, 10, 7, 6, 5, 4, 1)]
-    tail += [(BACK, number, 1) for number in range(1, 36)]
-    tail += [obligation(0, 1, 1), (MOST, 0, 1), (MOST, 1, 0)]
-    return tail
+def told_of(calls):
+    """All that the house holds behind these calls."""
+    return run(calls + EVERYTHING)[len(calls):]
 
 
 class Balances:
-    """For test cases: what an owner's balance is, as far as grants can tell it."""
+    """For test cases: what an owner's balance is."""
 
     def assert_balance(self, calls, owner, balance):
-        """-6 comes ahead of -7, so a grant tells what is free also where there is no room."""
-        if balance > 0:
-            enough = last(calls + [(GRANT, owner, 0, 1, OBLIGATION, balance, 1)])
-            self.assertNotEqual(enough, [-6], "less than the balance told")
-        more = last(calls + [(GRANT, owner, 0, 1, OBLIGATION, balance + 1, 1)])
-        self.assertEqual(more, [-6], "more than the balance told")
+        self.assertEqual(last(calls + [(MONEY, owner)])[1], balance)

@@ -12,11 +12,14 @@ KEYS = {
     0: "zones", 1: "zone zone room room", 2: "line room room", 3: "line room room",
     4: "owner zone zone kind amount price", 5: "zone zone", 6: "right amount", 7: "right",
     8: "right owner amount price", 9: "right right", 10: "right right amount", 11: "right zone",
-    12: "right right amount",
+    12: "right right amount", 13: "owner zone zone kind amount price", 14: "bid", 15: "", 16: "", 17: "", 18: "right",
+    19: "", 20: "", 21: "owner", 22: "owner payin", 23: "", 24: "owner", 25: "",
 }
+ROWS = {16: "price flow", 17: "price", 18: "price", 19: "mark"}
 BOUNDS = {
     "zones": (2, 6), "zone": (0, 5), "room": (0, BILLION), "line": (0, 9), "owner": (0, 7), "kind": (0, 1),
     "amount": (1, BILLION), "price": (-10 ** 6, 10 ** 6), "right": (1, BILLION),
+    "bid": (1, BILLION), "payin": (-10 ** 15, 10 ** 15), "flow": (-BILLION, BILLION), "mark": (0, 1),
 }
 
 
@@ -29,30 +32,51 @@ def refuse_if(condition, number):
         raise Refused(number)
 
 
+def look_at(key, number):
+    refuse_if(not BOUNDS[key][0] <= number <= BOUNDS[key][1], -1)
+
+
+def take_apart(call):
+    """A call's numbers and rows, each with its key."""
+    place, *rest = call
+    numbers = [(key, rest.pop(0)) for key in KEYS[place].split()]
+    rows = []
+    for key in ROWS.get(place, "").split():
+        length = rest.pop(0)
+        rows.append((key, rest[:length]))
+        rest = rest[length:]
+    assert not rest, "a call with more than is told for it"
+    return numbers, rows
+
+
 class Oracle:
     def __init__(self):
         self.zones = None
 
     def ask(self, call):
-        place, *numbers = call
+        place = call[0]
+        numbers, rows = take_apart(call)
         kept = copy.deepcopy(self.__dict__)
         try:
-            for key, number in zip(KEYS[place].split(), numbers, strict=True):
-                refuse_if(not BOUNDS[key][0] <= number <= BOUNDS[key][1], -1)
+            for key, number in numbers + [(key, number) for key, row in rows for number in row]:
+                look_at(key, number)
+            refuse_if(any(len(row) > 64 for key, row in rows), -1)
             refuse_if(place != 0 and self.zones is None, -2)
-            return [0] + (getattr(self, f"call{place}")(*numbers) or [])
+            handed = [number for key, number in numbers] + [row for key, row in rows]
+            return [0] + (getattr(self, f"call{place}")(*handed) or [])
         except Refused as refused:
             self.__dict__ = kept
             return [refused.args[0]]
 
     # What the rights and lines come to at prices.
 
+    def worth(self, right, prices):
+        owner, source, sink, kind, amount = right
+        worth = amount * (prices[sink] - prices[source])
+        return max(worth, 0) if kind else worth
+
     def payouts(self, prices, rights=None):
-        total = 0
-        for owner, source, sink, kind, amount in (self.rights if rights is None else rights).values():
-            worth = amount * (prices[sink] - prices[source])
-            total += max(worth, 0) if kind else worth
-        return total
+        return sum(self.worth(right, prices) for right in (self.rights if rights is None else rights).values())
 
     def earnings(self, prices):
         return sum(max(prices[b] - prices[a], 0) * forth + max(prices[a] - prices[b], 0) * back
@@ -88,10 +112,22 @@ class Oracle:
     def there(self, *numbers):
         refuse_if(any(number not in self.rights for number in numbers), -3)
 
+    def free(self, owner):
+        held = [max(price, 0) * left for who, source, sink, kind, left, price in self.bids.values() if who == owner]
+        return self.balances[owner] - sum(held)
+
+    def one_for_each_zone(self, row):
+        refuse_if(len(row) != self.zones, -4)
+
+    def row(self, parts):
+        flat = [number for part in parts for number in part]
+        return [len(flat)] + flat
+
     # The calls.
 
     def call0(self, zones):
         self.zones, self.lines, self.rights, self.coming, self.balances = zones, [], {}, 1, [0] * 8
+        self.bids, self.coming_bid, self.till, self.sales, self.cash = {}, 1, 0, 0, 0
 
     def call1(self, a, b, forth, back):
         self.way(a, b)
@@ -126,10 +162,11 @@ class Oracle:
     def call4(self, owner, source, sink, kind, amount, price):
         self.way(source, sink)
         refuse_if(len(self.rights) >= 30, -5)
-        refuse_if(self.balances[owner] < max(price, 0) * amount, -6)
+        refuse_if(self.free(owner) < max(price, 0) * amount, -6)
         number = self.make(owner, source, sink, kind, amount)
         refuse_if(not self.safe(), -7)
         self.balances[owner] -= price * amount
+        self.sales += price * amount
         return [number]
 
     def call5(self, source, sink):
@@ -160,8 +197,8 @@ class Oracle:
         refuse_if(whole < amount or owner == buyer, -4)
         refuse_if(whole != amount and len(self.rights) >= 30, -5)
         cost = price * amount
-        refuse_if(cost > 0 and cost > self.balances[buyer], -6)
-        refuse_if(cost < 0 and -cost > self.balances[owner], -6)
+        refuse_if(cost > 0 and cost > self.free(buyer), -6)
+        refuse_if(cost < 0 and -cost > self.free(owner), -6)
         self.balances[buyer] -= cost
         self.balances[owner] += cost
         if whole == amount:
@@ -207,3 +244,98 @@ class Oracle:
         refuse_if(right == other or owner != owner2 or kind or kind2, -4)
         refuse_if((source, sink) != (sink2, source2) or min(first, second) < amount, -4)
         return [self.shrink(right, amount), self.shrink(other, amount)]
+
+    def call13(self, owner, source, sink, kind, amount, price):
+        self.way(source, sink)
+        refuse_if(len(self.bids) >= 10, -5)
+        refuse_if(self.free(owner) < max(price, 0) * amount, -6)
+        number = self.coming_bid
+        self.bids[number] = [owner, source, sink, kind, amount, price]
+        self.coming_bid += 1
+        return [number]
+
+    def call14(self, bid):
+        refuse_if(bid not in self.bids, -3)
+        self.bids.pop(bid)
+
+    def candidates(self):
+        """The bids that could get a right, with how much of it."""
+        if len(self.rights) >= 30:
+            return {}
+        most = {number: self.most(bid[1], bid[2], self.rights) for number, bid in self.bids.items()}
+        return {number: min(most[number], bid[4]) for number, bid in self.bids.items() if most[number] > 0}
+
+    def call15(self):
+        made = []
+        while self.candidates() and len(made) < 16:
+            amounts = self.candidates()
+            number = max(amounts, key=lambda number: (self.bids[number][5], -number))
+            owner, source, sink, kind, left, price = self.bids[number]
+            amount = amounts[number]
+            made.append((number, self.make(owner, source, sink, kind, amount), amount))
+            self.balances[owner] -= price * amount
+            self.sales += price * amount
+            self.bids[number][4] -= amount
+            if left == amount:
+                self.bids.pop(number)
+        return [int(not self.candidates())] + self.row(made)
+
+    def call16(self, prices, flows):
+        self.one_for_each_zone(prices)
+        refuse_if(len(flows) != len(self.lines), -4)
+        rent = 0
+        for (a, b, forth, back), flow in zip(self.lines, flows):
+            rise = prices[b] - prices[a]
+            least = forth if rise > 0 else -back
+            greatest = -back if rise < 0 else forth
+            refuse_if(not least <= flow <= greatest, -8)
+            rent += flow * rise
+        payouts = self.payouts(prices)
+        for right in self.rights.values():
+            self.balances[right[0]] += self.worth(right, prices)
+        self.till += rent - payouts
+        self.cash -= rent
+        return [rent, payouts]
+
+    def call17(self, prices):
+        self.one_for_each_zone(prices)
+        return [self.payouts(prices), self.earnings(prices)]
+
+    def call18(self, right, prices):
+        self.there(right)
+        self.one_for_each_zone(prices)
+        return [self.worth(self.rights[right], prices)]
+
+    def call19(self, marks):
+        """At prices of 1 in the group and 0 elsewhere rights pay what is promised and lines earn their room."""
+        self.one_for_each_zone(marks)
+        return [self.payouts(marks), self.earnings(marks)]
+
+    def call20(self):
+        found = []
+        for marks in itertools.product((0, 1), repeat=self.zones):
+            number = sum(2 ** zone for zone in range(self.zones) if marks[zone])
+            if 0 < sum(marks) < self.zones:
+                found.append((self.earnings(marks) - self.payouts(marks), number, marks))
+        slack, number, marks = min(found)
+        return [slack] + self.row([marks])
+
+    def call21(self, owner):
+        return [self.balances[owner], self.free(owner)]
+
+    def call22(self, owner, payin):
+        refuse_if(payin < 0 and self.free(owner) < -payin, -6)
+        self.balances[owner] += payin
+        self.cash -= payin
+        return [self.balances[owner]]
+
+    def call23(self):
+        return [self.till, self.sales, self.cash]
+
+    def call24(self, owner):
+        return self.row([number] + right[1:] for number, right in sorted(self.rights.items()) if right[0] == owner)
+
+    def call25(self):
+        return ([self.zones, self.coming, self.coming_bid] + self.row(self.lines)
+                + self.row([number] + right for number, right in sorted(self.rights.items()))
+                + self.row([number] + bid for number, bid in sorted(self.bids.items())))

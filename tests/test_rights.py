@@ -3,12 +3,9 @@
 import unittest
 
 from tests.helper import (
-    BACK, BILLION, GRANT, KEEP, LINE, MOST, OBLIGATION, OPEN, OPTION, PASS, ROOMS,
-    Balances, last, obligation, option, run, thirty_rights, two_zones, wide,
+    BACK, BILLION, GRANT, HOUSE, KEEP, LINE, MONEY, MOST, OBLIGATION, OPEN, OPTION, PASS, ROOMS,
+    Balances, last, obligation, option, run, settle, thirty_rights, two_zones, wide,
 )
-from zonerights.house import answer_to
-from zonerights.layout import read_calls
-from zonerights.records import House
 
 
 class Grant(unittest.TestCase, Balances):
@@ -61,20 +58,16 @@ class Grant(unittest.TestCase, Balances):
         self.assertEqual(last(rich + [option(0, 1, 1, owner=1, price=1)]), [0, 2])
 
     def test_sales(self):
-        house = House()
-        calls = two_zones(9) + [option(0, 1, 3, price=-4), option(0, 1, 2, price=5), option(0, 1, 9, price=0)]
-        for call in calls:
-            answer_to(house, read_calls(list(call))[0])
-        self.assertEqual(house.sales, -2)
-        self.assertEqual(house.balances, [2, 0, 0, 0, 0, 0, 0, 0])
+        house = two_zones(9) + [option(0, 1, 3, price=-4), (HOUSE,), option(0, 1, 2, price=5), (HOUSE,),
+                                option(0, 1, 9, price=0), option(0, 1, 1, price=0), (HOUSE,), (MONEY, 0)]
+        self.assertEqual(run(house)[2:], [[0, 1], [0, 0, -12, 0], [0, 2], [0, 0, -2, 0], [-7], [0, 3], [0, 0, -2, 0],
+                                          [0, 2, 2]])
 
     def test_free_below_0_refuses_each_grant(self):
-        house = House()
-        for call in two_zones(9):
-            answer_to(house, read_calls(list(call))[0])
-        house.pay(0, -1)
+        house = two_zones(9, 9) + [obligation(0, 1, 1), settle([1, 0], [-9])]
+        self.assertEqual(last(house + [(MONEY, 0)]), [0, -1, -1])
         for price in (-5, 0, 5):
-            self.assertEqual(answer_to(house, read_calls(list(option(0, 1, 1, price=price)))[0]), [-6])
+            self.assertEqual(last(house + [option(0, 1, 1, price=price)]), [-6])
 
     def test_zones_that_are_not_there_or_one(self):
         for source, sink in ((0, 2), (2, 0), (5, 1), (0, 0), (1, 1), (5, 5)):

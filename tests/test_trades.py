@@ -3,12 +3,9 @@
 import unittest
 
 from tests.helper import (
-    ANNUL, BACK, BILLION, CHAIN, GRANT, JOIN, KEEP, LINE, MOST, OBLIGATION, OPEN, OPTION, PASS, VIA,
-    Balances, last, obligation, option, run, thirty_rights, two_zones, wide,
+    ANNUL, BACK, BILLION, CHAIN, GRANT, JOIN, KEEP, LINE, MONEY, MOST, OBLIGATION, OPEN, OPTION, PASS, VIA,
+    Balances, last, obligation, option, run, settle, thirty_rights, two_zones, wide,
 )
-from zonerights.house import answer_to
-from zonerights.layout import read_calls
-from zonerights.records import House
 
 
 class Pass(unittest.TestCase, Balances):
@@ -72,14 +69,10 @@ class Pass(unittest.TestCase, Balances):
         self.assertEqual(last(buyer_rich + [(PASS, 1, 2, 1, -1)]), [-6])
 
     def test_where_nothing_has_to_be_paid_nothing_has_to_be_free(self):
-        house = House()
-        for call in two_zones(9) + [option(0, 1, 5, owner=1)]:
-            answer_to(house, read_calls(list(call))[0])
-        house.pay(1, -3)
-        house.pay(2, -3)
-        for price, answer in ((1, [-6]), (-1, [-6]), (0, [0, 2])):
-            self.assertEqual(answer_to(house, read_calls([PASS, 1, 2, 2, price])[0]), answer)
-        self.assertEqual(house.balances, [0, -3, -3, 0, 0, 0, 0, 0])
+        house = two_zones(9, 9) + [obligation(0, 1, 3, owner=1), obligation(0, 1, 3, owner=2), settle([1, 0], [-9])]
+        for price, answer in ((1, [-6]), (-1, [-6]), (0, [0, 3])):
+            told = run(house + [(PASS, 1, 2, 2, price), (MONEY, 1), (MONEY, 2)])
+            self.assertEqual(told[-3:], [answer, [0, -3, -3], [0, -3, -3]])
 
     def test_no_such_right(self):
         self.assertEqual(last(two_zones(9) + [(PASS, 1, 1, 1, 0)]), [-3])

@@ -1,7 +1,6 @@
-"""How calls lie one behind another in a list, and within which ranges their numbers are."""
+"""How calls lie one behind another in a list, within which ranges their numbers are, and how rows are answered."""
 
-# One tuple for each call, at its place. Places without a call of their own yet stand here too:
-# the calls behind them can be found only if one knows how long they are.
+# One tuple for each call, at its place.
 NUMBER_NAMES = (
     ("zones",),
     ("a", "b", "forth", "back"),
@@ -31,8 +30,12 @@ NUMBER_NAMES = (
     (),
 )
 
-ROW_COUNTS = {16: 2, 17: 1, 18: 1, 19: 1}
+# By the places of the calls that have rows.
+ROW_NAMES = {16: ("prices", "flows"), 17: ("prices",), 18: ("prices",), 19: ("marks",)}
 
+LONGEST_ROW = 64
+
+# By the names of numbers and of rows: a row's range is that of each number in it.
 RANGES = {
     "zones": (2, 6),
     "a": (0, 5),
@@ -50,6 +53,11 @@ RANGES = {
     "price": (-1000000, 1000000),
     "right": (1, 1000000000),
     "other": (1, 1000000000),
+    "bid": (1, 1000000000),
+    "payin": (-1000000000000000, 1000000000000000),
+    "prices": (-1000000, 1000000),
+    "flows": (-1000000000, 1000000000),
+    "marks": (0, 1),
 }
 
 
@@ -68,10 +76,10 @@ def read_calls(calls):
         names = NUMBER_NAMES[place]
         numbers = read_numbers(calls, spot + 1, names)
         spot = spot + 1 + len(names)
-        rows = []
-        while len(rows) < ROW_COUNTS.get(place, 0):
+        rows = {}
+        for name in ROW_NAMES.get(place, ()):
             end = spot + 1 + calls[spot]
-            rows.append(calls[spot + 1:end])
+            rows[name] = calls[spot + 1:end]
             spot = end
         found.append(Call(place, numbers, rows))
     return found
@@ -84,10 +92,21 @@ def read_numbers(calls, spot, names):
     return numbers
 
 
-def are_in_range(numbers):
-    return all([is_in_range(name, number) for name, number in numbers.items()])
+def is_as_told(call):
+    if not all([is_in_range(name, number) for name, number in call.numbers.items()]):
+        return False
+    return all([is_row_as_told(name, row) for name, row in call.rows.items()])
+
+
+def is_row_as_told(name, row):
+    return len(row) <= LONGEST_ROW and all([is_in_range(name, number) for number in row])
 
 
 def is_in_range(name, number):
     bounds = RANGES[name]
     return bounds[0] <= number <= bounds[1]
+
+
+# A row is answered as how many numbers it has, then these.
+def counted(row):
+    return [len(row)] + row

@@ -1,7 +1,8 @@
 """The calls on lines: line, rooms, outage."""
 
 from zonerights.groups import is_safe, most_between, slack_list, slacks_with, slacks_without
-from zonerights.records import MOST_LINES, OBLIGATION, Line, find_right, with_amount, with_rooms
+from zonerights.layout import counted
+from zonerights.records import MOST_LINES, OBLIGATION, Line, find_numbered, with_amount, with_rooms
 from zonerights.refusals import FULL, NOT_SAFE, NOT_THERE
 
 
@@ -36,7 +37,7 @@ def outage(house, numbers):
     row = row_of_cuts(house.rights, rights)
     house.lines = lines
     house.rights = rights
-    return [0, len(row)] + row
+    return [0] + counted(row)
 
 
 def cut_options(zones, lines, rights):
@@ -49,14 +50,14 @@ def cut_options(zones, lines, rights):
             left = min(right.amount, max(0, most_between(slacks, right.source, right.sink)))
             kept = with_amount(kept, right.number, left)
             if left > 0:
-                slacks = slacks_with(slacks, find_right(kept, right.number))
+                slacks = slacks_with(slacks, find_numbered(kept, right.number))
     return kept
 
 
 def row_of_cuts(before, behind):
     row = []
     for right in before:
-        now = find_right(behind, right.number)
+        now = find_numbered(behind, right.number)
         left = 0 if now is None else now.amount
         if left < right.amount:
             row.extend([right.number, left])

@@ -1,7 +1,7 @@
 """The calls between the house and an owner: grant, most, back, keep."""
 
 from zonerights.groups import is_safe, most_between, slack_list
-from zonerights.records import MOST_RIGHTS, OPTION, Right, find_right, with_amount
+from zonerights.records import MOST_RIGHTS, OPTION, Right, cost_at, find_numbered, with_amount
 from zonerights.refusals import FULL, NOT_FITTING, NOT_SAFE, NOT_THERE, TOO_DEAR
 
 
@@ -15,16 +15,12 @@ def grant(house, numbers):
         return [NOT_THERE]
     if len(house.rights) == MOST_RIGHTS:
         return [FULL]
-    if house.free(owner) < max(0, price) * amount:
+    if house.free(owner) < cost_at(price, amount):
         return [TOO_DEAR]
     right = Right(house.next_number, owner, source, sink, numbers["kind"], amount)
-    rights = house.rights + [right]
-    if not is_safe(house.zones, house.lines, rights):
+    if not is_safe(house.zones, house.lines, house.rights + [right]):
         return [NOT_SAFE]
-    house.rights = rights
-    house.next_number = right.number + 1
-    house.pay(owner, 0 - price * amount)
-    house.sales = house.sales + price * amount
+    house.sell(right, price)
     return [0, right.number]
 
 
@@ -38,7 +34,7 @@ def tell_most(house, numbers):
 
 
 def give_back(house, numbers):
-    right = find_right(house.rights, numbers["right"])
+    right = find_numbered(house.rights, numbers["right"])
     if right is None:
         return [NOT_THERE]
     if right.amount < numbers["amount"]:
@@ -52,7 +48,7 @@ def give_back(house, numbers):
 
 
 def tell_keep(house, numbers):
-    right = find_right(house.rights, numbers["right"])
+    right = find_numbered(house.rights, numbers["right"])
     if right is None:
         return [NOT_THERE]
     # An option takes no room the other way round, so nothing can lean on it.

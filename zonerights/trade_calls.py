@@ -1,12 +1,12 @@
 """The calls of owners with rights that are there: pass, join, chain, via, annul."""
 
 from zonerights.groups import is_safe
-from zonerights.records import MOST_AMOUNT, MOST_RIGHTS, OBLIGATION, Right, find_right, with_amount, with_owner
+from zonerights.records import MOST_AMOUNT, MOST_RIGHTS, OBLIGATION, Right, find_numbered, with_amount, with_owner
 from zonerights.refusals import FULL, NOT_FITTING, NOT_SAFE, NOT_THERE, TOO_DEAR
 
 
 def pass_on(house, numbers):
-    right = find_right(house.rights, numbers["right"])
+    right = find_numbered(house.rights, numbers["right"])
     buyer = numbers["buyer"]
     amount = numbers["amount"]
     cost = numbers["price"] * amount
@@ -43,8 +43,8 @@ def hand_over(house, right, buyer, amount):
 
 
 def join_rights(house, numbers):
-    right = find_right(house.rights, numbers["right"])
-    other = find_right(house.rights, numbers["other"])
+    right = find_numbered(house.rights, numbers["right"])
+    other = find_numbered(house.rights, numbers["other"])
     if right is None or other is None:
         return [NOT_THERE]
     both = right.amount + other.amount
@@ -71,8 +71,8 @@ def less_of_both(rights, right, other, amount):
 
 
 def chain(house, numbers):
-    right = find_right(house.rights, numbers["right"])
-    other = find_right(house.rights, numbers["other"])
+    right = find_numbered(house.rights, numbers["right"])
+    other = find_numbered(house.rights, numbers["other"])
     amount = numbers["amount"]
     if right is None or other is None:
         return [NOT_THERE]
@@ -90,7 +90,7 @@ def chain(house, numbers):
 
 
 def split_via(house, numbers):
-    right = find_right(house.rights, numbers["right"])
+    right = find_numbered(house.rights, numbers["right"])
     zone = numbers["zone"]
     if right is None:
         return [NOT_THERE]
@@ -110,8 +110,8 @@ def split_via(house, numbers):
 
 
 def annul(house, numbers):
-    right = find_right(house.rights, numbers["right"])
-    other = find_right(house.rights, numbers["other"])
+    right = find_numbered(house.rights, numbers["right"])
+    other = find_numbered(house.rights, numbers["other"])
     amount = numbers["amount"]
     if right is None or other is None:
         return [NOT_THERE]
